@@ -1,0 +1,1 @@
+"""Squaresheet: sheets of squares sewn side to side."""
