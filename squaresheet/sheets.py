@@ -63,9 +63,13 @@ def has_each_once(row):
     return len(set(row)) == len(row)
 
 
-def is_square(thing, squares):
+def is_whole(thing):
     # To Python a truth is an int too, but True is no square 1.
-    return isinstance(thing, int) and not isinstance(thing, bool) and 0 <= thing < squares
+    return isinstance(thing, int) and not isinstance(thing, bool)
+
+
+def is_square(thing, squares):
+    return is_whole(thing) and 0 <= thing < squares
 
 
 def need_square(sheet, square):
@@ -103,3 +107,16 @@ def paths_from(rows, first):
                 found.append(row[here])
         done += 1
     return paths
+
+
+def cycle_from(row, first):
+    met = [first]
+    while row[met[-1]] != first:
+        met.append(row[met[-1]])
+    return met
+
+
+def cycles(row):
+    # Each cycle is found once from each of its squares; the one from its least square is kept.
+    found = [cycle_from(row, first) for first in range(len(row))]
+    return [cycle for cycle in found if cycle[0] == min(cycle)]

@@ -133,3 +133,13 @@ class Language(unittest.TestCase):
                 self.assertLessEqual(len(owner.bases), 1, owner.name)
                 for method in nodes_of(owner, ast.FunctionDef):
                     self.assertTrue(method.name in TWO_UNDERSCORES or not method.name.startswith("_"), method.name)
+
+    def test_no_name_is_a_method_in_one_class_and_a_value_in_another(self):
+        values = {
+            node.attr
+            for tree in self.trees.values()
+            for node in nodes_of(tree, ast.Attribute)
+            if isinstance(node.ctx, ast.Store)
+        }
+        # The methods of classes that are still to come, as the document tells them.
+        self.assertEqual(values & (self.methods | {"done", "back", "shown", "say", "sheet", "steps"}), set())

@@ -4,9 +4,10 @@ import itertools
 import unittest
 
 from squaresheet.errors import NoSquare, NoWord, SheetError
-from squaresheet.sheets import gone, groups, path_between, sheet_of
+from squaresheet.sheets import gone, path_between
 
-THREE = ((1, 0, 2), (2, 1, 0))
+from samples import ABSENT, THREE, small_sheets
+
 # Its steps to the right, left, up and down all differ: to each of 0 to 4 add 1, 4, 2, 3 (less 5 where too great).
 FIVE = ((1, 2, 3, 4, 0), (2, 3, 4, 0, 1))
 # One row of 36 squares, and a staircase in which right and up steps take turns.
@@ -14,15 +15,6 @@ RING = (tuple(range(1, 36)) + (0,), tuple(range(36)))
 SWAPS = tuple(k + 1 if k % 2 == 0 else k - 1 for k in range(36))
 STAIRS = (SWAPS, (0,) + tuple(k + 1 for k in SWAPS[:34]) + (35,))
 BACK = {"r": "l", "l": "r", "u": "d", "d": "u"}
-ABSENT = (-1, -2, -3, -36, -(10 ** 59), 36, 37, 1000, 10 ** 59)
-
-
-def small_sheets(most):
-    for length in range(1, most + 1):
-        rows = list(itertools.permutations(range(length)))
-        for right, up in itertools.product(rows, rows):
-            if len(groups(right, up)) == 1:
-                yield sheet_of(right, up)
 
 
 class Gone(unittest.TestCase):
