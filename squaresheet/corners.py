@@ -1,9 +1,6 @@
 """Corners: the rounds of squares about them, how often one turns round each, the counts of a sheet."""
 
-from squaresheet.sheets import cycle_from, cycles, gone, need_square, size
-
-# First left, then down, then right, then up: once round the left lower corner, against the clock.
-ONE_TURN = "ldru"
+from squaresheet.sheets import back_row, cycle_from, cycles, need_square, size
 
 
 def round_of(sheet, square):
@@ -30,8 +27,11 @@ def counts(sheet):
     return (points, sides, squares, (2 - points + sides - squares) // 2)
 
 
+# First left, then down, then right, then up: once round the left lower corner, against the clock.
 def turn_row(sheet):
-    return [gone(sheet, square, ONE_TURN) for square in range(size(sheet))]
+    left = back_row(sheet[0])
+    down = back_row(sheet[1])
+    return [sheet[1][sheet[0][down[square]]] for square in left]
 
 
 # For each square whose left lower corner is not plain, the least square with the same one.

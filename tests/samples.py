@@ -1,8 +1,10 @@
-"""Sheets for the tests: all small ones, and many greater ones, always the same."""
+"""Sheets and places for the tests: all small sheets, and many greater ones, always the same."""
 
 import itertools
 import random
+from fractions import Fraction
 
+from squaresheet.parts import Part
 from squaresheet.sheets import groups, sheet_of
 
 ONE = ((0,), (0,))
@@ -65,3 +67,23 @@ def shuffled(source, length):
     f = list(range(length))
     source.shuffle(f)
     return f
+
+
+def part(value):
+    fraction = Fraction(value)
+    return Part(fraction.numerator, fraction.denominator)
+
+
+def place_of(square, x, y):
+    return (square, part(x), part(y))
+
+
+def plain_answer(answer):
+    """The answer with fractions in the place of its Parts."""
+    if answer[0] == "corner":
+        kind, square, done = answer
+        return (kind, square, Fraction(done.top, done.bottom))
+    if answer[0] == "there":
+        square, x, y = answer[1]
+        return ("there", (square, Fraction(x.top, x.bottom), Fraction(y.top, y.bottom)))
+    return answer

@@ -12,33 +12,13 @@ from squaresheet.parts import Part
 from squaresheet.sheets import gone
 from squaresheet.walks import back_after, walk
 
-from samples import ABSENT, ONE, THREE, block, great_sheets, slit, small_sheets
+from samples import ABSENT, ONE, THREE, block, great_sheets, place_of, plain_answer, slit, small_sheets
 
 HALF = Part(1, 2)
 # Rows 0 1 2 3 and 4 5 6 7; the left lower corners of 4, 5, 6, 7 are not plain, those of 4 and 6, of 5 and 7 are one.
 SLIT = slit(block(4, 2), 0, 2)
 WAYS = [(p, q) for p in range(-3, 4) for q in range(-3, 4) if (p, q) != (0, 0)]
 FAR_WAYS = [(60, 59), (-60, 60), (59, -60), (-7, -60), (0, 60), (-60, 0), (60, 1), (-1, 60), (37, -23), (-41, 58)]
-
-
-def part(value):
-    fraction = Fraction(value)
-    return Part(fraction.numerator, fraction.denominator)
-
-
-def place_of(square, x, y):
-    return (square, part(x), part(y))
-
-
-def plain_answer(answer):
-    """The answer with fractions in the place of its Parts."""
-    if answer[0] == "corner":
-        kind, square, done = answer
-        return (kind, square, Fraction(done.top, done.bottom))
-    if answer[0] == "there":
-        square, x, y = answer[1]
-        return ("there", (square, Fraction(x.top, x.bottom), Fraction(y.top, y.bottom)))
-    return answer
 
 
 def walked(sheet, square, x, y, p, q, steps):
