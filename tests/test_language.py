@@ -141,5 +141,70 @@ class Language(unittest.TestCase):
             for node in nodes_of(tree, ast.Attribute)
             if isinstance(node.ctx, ast.Store)
         }
-        # The methods of classes that are still to come, as the document tells them.
-        self.assertEqual(values & (self.methods | {"done", "back", "shown", "say", "sheet", "steps"}), set())
+        self.assertEqual(values & self.methods, set())
+
+    def test_texts_and_numbers(self):
+        for name, tree in self.each_tree():
+            for node in nodes_of(tree, ast.Constant):
+                self.assertNotIn("%", str(node.value), node.lineno)
+            for node in nodes_of(tree, ast.FormattedValue):
+                self.assertIsInstance(node.value, ast.Name, node.lineno)
+                self.assertIsNone(node.format_spec, node.lineno)
+            for node in nodes_of(tree, ast.BinOp):
+                self.assertNotIsInstance(node.op, ast.Pow, node.lineno)
+
+    def test_comprehensions_have_one_for_and_at_most_one_if(self):
+        for name, tree in self.each_tree():
+            for node in nodes_of(tree, ast.ListComp):
+                self.assertEqual(len(node.generators), 1, node.lineno)
+                self.assertLessEqual(len(node.generators[0].ifs), 1, node.lineno)
+
+    def test_is_stands_beside_none_and_truths_alone(self):
+        for name, tree in self.each_tree():
+            for node in nodes_of(tree, ast.Compare):
+                if any(isinstance(sign, (ast.Is, ast.IsNot)) for sign in node.ops):
+                    self.assertIsInstance(node.comparators[0], ast.Constant, node.lineno)
+
+    def test_no_local_is_called_like_a_class_or_an_import_of_its_file(self):
+        for name, tree in self.each_tree():
+            taken = {alias.name for node in nodes_of(tree, ast.ImportFrom) for alias in node.names}
+            taken |= {node.name for node in nodes_of(tree, ast.ClassDef)}
+            tops = {target for node in tree.body if isinstance(node, ast.Assign) for target in node.targets}
+            for node in nodes_of(tree, ast.Name):
+                if isinstance(node.ctx, ast.Store) and node not in tops:
+                    self.assertNotIn(node.id, taken, node.lineno)
+            for node in nodes_of(tree, ast.arg):
+                self.assertNotIn(node.arg, taken, node.lineno)
+
+    def test_what_a_file_keeps_is_plain(self):
+        for name, tree in self.each_tree():
+            for node in tree.body:
+                self.assertIsInstance(node, (ast.Expr, ast.ImportFrom, ast.Assign, ast.FunctionDef, ast.ClassDef))
+                if isinstance(node, ast.Assign) and isinstance(node.value, (ast.List, ast.Dict)):
+                    self.assertEqual(len(nodes_of(node.value, ast.List, ast.Dict, ast.Set, ast.Call)), 1, node.lineno)
+
+    def test_walked_at_once(self):
+        kept_not = {"zip", "enumerate", "reversed", "range"}
+        for name, tree in self.each_tree():
+            for node in nodes_of(tree, ast.Assign, ast.Return):
+                value = node.value
+                if isinstance(value, ast.Call) and isinstance(value.func, ast.Name):
+                    self.assertNotIn(value.func.id, kept_not | {"set", "frozenset"}, node.lineno)
+
+    def test_only_error_classes_by_name_are_taken(self):
+        for name, tree in self.each_tree():
+            for node in nodes_of(tree, ast.ExceptHandler):
+                self.assertIsNotNone(node.type, node.lineno)
+                for kind in nodes_of(node.type, ast.Name):
+                    self.assertIn(kind.id, top_names(self.trees["errors"]), node.lineno)
+            for node in nodes_of(tree, ast.Raise):
+                self.assertIsInstance(node.exc, ast.Call, node.lineno)
+
+    def test_each_function_and_module_is_used_or_told_by_the_document(self):
+        # What nobody calls any more would only be in the way.
+        told = (PACKAGE.parent / "tests" / "test_interface.py").read_text("utf-8")
+        used = {node.id for tree in self.trees.values() for node in nodes_of(tree, ast.Name)}
+        for name, tree in self.each_tree():
+            for node in tree.body:
+                if isinstance(node, ast.FunctionDef):
+                    self.assertTrue(node.name in used or f'"{node.name}(' in told, node.name)

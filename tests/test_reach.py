@@ -56,7 +56,8 @@ def short_list(sheet):
         return None
 
 
-MANY = [(sheet, told) for sheet in list(small_sheets(4))[::3] + great_sheets(30) for told in [short_list(sheet)] if told]
+SHEETS = list(small_sheets(4))[::3] + great_sheets(30)
+MANY = [(sheet, told) for sheet, told in zip(SHEETS, map(short_list, SHEETS)) if told]
 
 
 class Reached(unittest.TestCase):
